@@ -1,0 +1,1 @@
+"""Graph rules: what targets may depend on, and which rule is broken first."""
