@@ -1,17 +1,30 @@
 """The calls on one object, and their answers."""
 
+from dependrules.additions import first_broken
 from dependrules.breaches import all_breaches
+from dependrules.breaches import layer_of
+from dependrules.breaches import sees
 from dependrules.circles import least_circle
 from dependrules.graph import Graph
 from dependrules.graph import Target
+from dependrules.labels import is_label
+from dependrules.labels import package_of
 from dependrules.refusals import ACCEPTED
+from dependrules.refusals import LABEL
 from dependrules.refusals import group_refusal
 from dependrules.refusals import known_target_refusal
+from dependrules.refusals import may_refusal
+from dependrules.refusals import order_refusal
 from dependrules.refusals import plain_specs_refusal
+from dependrules.refusals import sees_refusal
 from dependrules.refusals import target_refusal
+from dependrules.resting import order_of
+from dependrules.resting import resting_on
 from dependrules.texts import lines_of
 from dependrules.texts import text_of
 from dependrules.texts import texts_of
+from dependrules.wanted import idle_specs
+from dependrules.wanted import wanted_packages
 
 BREACH_WORDS = {1: "missing", 2: "hidden", 3: "layer"}
 MOST_BREACH_LINES = 16
@@ -83,9 +96,61 @@ def answer_breaches(graph, rows):
     return [len(found)] + lines_of([breach_line(breach) for breach in found[:MOST_BREACH_LINES]])
 
 
+def counted_lines(texts):
+    return [len(texts)] + lines_of(texts)
+
+
 def answer_circle(graph, rows):
-    circle = least_circle(graph.targets)
-    return [len(circle)] + lines_of(circle)
+    return counted_lines(least_circle(graph.targets))
+
+
+def answer_order(graph, rows):
+    goals = texts_of(rows[0])
+    refusal = order_refusal(graph, goals)
+    if refusal != ACCEPTED:
+        return [refusal]
+    return counted_lines(order_of(graph, goals))
+
+
+def answer_may(graph, rows):
+    refusal = may_refusal(graph, rows[0], rows[1])
+    if refusal != ACCEPTED:
+        return [refusal]
+    return [first_broken(graph, rows[0], rows[1])]
+
+
+def answer_sees(graph, rows):
+    refusal = sees_refusal(graph, rows[0], rows[1])
+    if refusal != ACCEPTED:
+        return [refusal]
+    return [1 if sees(graph, rows[0], rows[1]) else 0]
+
+
+def answer_layer(graph, rows):
+    label = rows[0]
+    if not is_label(label):
+        return [LABEL]
+    return [layer_of(graph, package_of(label))]
+
+
+def lines_about(graph, label, tell):
+    """What tell finds about the target of this label, in lines."""
+    refusal = known_target_refusal(graph, label)
+    if refusal != ACCEPTED:
+        return [refusal]
+    return counted_lines(tell(graph, label))
+
+
+def answer_wanted(graph, rows):
+    return lines_about(graph, rows[0], wanted_packages)
+
+
+def answer_idle(graph, rows):
+    return lines_about(graph, rows[0], idle_specs)
+
+
+def answer_above(graph, rows):
+    return lines_about(graph, rows[0], resting_on)
 
 
 # Each call at the place of its number, with how many rows it has.
@@ -97,6 +162,13 @@ CALLS = (
     (answer_check, 0),
     (answer_breaches, 0),
     (answer_circle, 0),
+    (answer_order, 1),
+    (answer_may, 2),
+    (answer_sees, 2),
+    (answer_layer, 1),
+    (answer_wanted, 1),
+    (answer_idle, 1),
+    (answer_above, 1),
 )
 
 

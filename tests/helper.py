@@ -2,7 +2,12 @@
 
 from dependrules.targets import answers
 
-LABEL, LIST, LIMIT, TWICE, SPEC, FULL, ABSENT, NAME = -1, -2, -3, -4, -5, -6, -7, -10
+LABEL, LIST, LIMIT, TWICE, SPEC, FULL, ABSENT, IN_CIRCLE, MISSING, NAME = range(-1, -11, -1)
+
+BAD_LABELS = ["", "/", "//", ":", "//:", "//a", "//a:", "a:x", "/a:x", "///a:x", "//a:x:y", "//a:..", "//./a:x",
+              "//a/:x", "//a:x\n", "//a:x ", "//a:\xff", "public", "//...", "//a:" + "x" * 33, "x" * 2000]
+NOT_LISTS = [[1], [2, 97], [-1], [-1, 97], [0, -5], [0, 0, 1], [1, 256], [1, -1], [5, 47, 47, 97, 58], [10 ** 18],
+             [-10 ** 18], [1, 10 ** 18], [5, 47, 47, 97, 58, 120, 1], [4999] + [97] * 4998]
 
 CHECK = [4]
 BREACHES = [5]
@@ -53,6 +58,44 @@ def layers(specs=()):
     return raw_layers(listed(specs))
 
 
+def raw_order(goals):
+    return [7] + row(goals)
+
+
+def order(goals=()):
+    return raw_order(listed(goals))
+
+
+def may(a, b):
+    return [8] + row(text(a)) + row(text(b))
+
+
+def sees(a, b):
+    return [9] + row(text(a)) + row(text(b))
+
+
+def layer(label):
+    return [10] + row(text(label))
+
+
+def wanted(label):
+    return [11] + row(text(label))
+
+
+def idle(label):
+    return [12] + row(text(label))
+
+
+def above(label):
+    return [13] + row(text(label))
+
+
+def chain(count):
+    """Calls for so many targets of one package, each of which depends on the next one, and their labels."""
+    labels = ["//p:%02d" % number for number in range(count)]
+    return [target(label, labels[place + 1:place + 2]) for place, label in enumerate(labels)], labels
+
+
 def run(*calls):
     """The answers, a list of numbers for each call."""
     numbers = answers([number for call in calls for number in call])
@@ -98,3 +141,6 @@ EXAMPLE = (
     target("//c:z", ["//a:x"], ["//b/...", "//q"]),
     group("g", ["//c"]),
 )
+
+# The example without the dependency that closes its circles.
+OPEN_EXAMPLE = EXAMPLE + (target("//c:z", [], ["//b/...", "//q"]),)
